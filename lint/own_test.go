@@ -6,6 +6,7 @@ import (
 
 	"filigree/api"
 	"filigree/lint"
+	"filigree/madeup"
 )
 
 // told is all that is told of a design.
@@ -18,43 +19,18 @@ func told(d api.Flat) map[string]any {
 	return all
 }
 
-// wipe writes into all lists of a design.
-func wipe(d api.Flat) {
-	for _, p := range d.Procs {
-		wipeStatements(p.L)
-	}
-	clear(d.Procs)
-	clear(d.Signals)
-	clear(d.Checks)
-}
-
-func wipeStatements(l []api.T) {
-	for _, t := range l {
-		wipeExpressions(t.E)
-		wipeStatements(t.L)
-	}
-	clear(l)
-}
-
-func wipeExpressions(l []api.E) {
-	for _, e := range l {
-		wipeExpressions(e.L)
-	}
-	clear(l)
-}
-
 // TestArgumentsStay: a design is not changed, and what is told of it does not hang on what is written into it afterwards.
 func TestArgumentsStay(t *testing.T) {
-	c := chance(4)
+	c := madeup.Chance(4)
 	for range 200 {
-		d := whole(t, c.module(faults{two: c.seldom(9), none: c.seldom(9), latch: c.seldom(9), ring: c.seldom(4)}))
+		d := whole(t, c.Module(madeup.Faults{Two: c.Seldom(9), None: c.Seldom(9), Latch: c.Seldom(9), Ring: c.Seldom(4)}))
 		before := fmt.Sprint(d)
 		all := told(d)
 		if after := fmt.Sprint(d); after != before {
 			t.Fatalf("%s becomes %s", before, after)
 		}
 		want := fmt.Sprint(all)
-		wipe(d)
+		madeup.Wipe(d)
 		if got := fmt.Sprint(all); got != want {
 			t.Fatalf("%s becomes %s", want, got)
 		}
@@ -63,9 +39,9 @@ func TestArgumentsStay(t *testing.T) {
 
 // TestAgain: the same is told whenever it is asked, whatever was asked ahead of it, and whatever was written into what was told.
 func TestAgain(t *testing.T) {
-	c := chance(5)
+	c := madeup.Chance(5)
 	for range 100 {
-		d, other := whole(t, c.module(faults{})), whole(t, c.module(faults{ring: true}))
+		d, other := whole(t, c.Module(madeup.Faults{})), whole(t, c.Module(madeup.Faults{Ring: true}))
 		first := told(d)
 		want := fmt.Sprint(first)
 		for range 3 {
@@ -87,9 +63,9 @@ func TestAgain(t *testing.T) {
 
 // TestNamesMakeNoDifference: nor does what registers are in the beginning.
 func TestNamesMakeNoDifference(t *testing.T) {
-	c := chance(6)
+	c := madeup.Chance(6)
 	for range 100 {
-		d := whole(t, c.module(faults{latch: c.seldom(9), ring: c.seldom(4)}))
+		d := whole(t, c.Module(madeup.Faults{Latch: c.Seldom(9), Ring: c.Seldom(4)}))
 		want := fmt.Sprint(told(d))
 		for k := range d.Signals {
 			d.Signals[k].Name = fmt.Sprint("another name ", len(d.Signals)-k)

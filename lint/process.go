@@ -1,13 +1,12 @@
 package lint
 
 import (
-	"strconv"
-
 	"filigree/api"
+	"filigree/excerpt"
 	"filigree/stmt"
 )
 
-// process is one of a design, alone with those signals that stand in it, by numbers of their own. Layer 11 checks each time all of the design that it is handed: so it is handed no more than that.
+// process is one of a design, alone with those signals that stand in it, by numbers of their own.
 type process struct {
 	clocked bool
 	alone   api.Flat
@@ -30,58 +29,13 @@ func (p process) bits(call func(d api.Flat, p int) ([]int, api.Errno)) []int {
 
 // processOf is one of a design's processes; lowest is of each signal the number of its lowest bit, and, behind them, how many bits there are.
 func processOf(d api.Flat, lowest []int, p api.Proc) process {
-	x := excerpt{all: d.Signals, lowest: lowest, numbers: map[int]int{}}
-	p.L = each(p.L, x.statement)
-	return process{clocked: p.Clocked, alone: api.Flat{Signals: x.signals, Procs: []api.Proc{p}}, places: x.places}
-}
-
-// excerpt is those of all signals of a design that were met.
-type excerpt struct {
-	all     []api.Signal
-	lowest  []int
-	numbers map[int]int
-	signals []api.Signal
-	places  []int
-}
-
-// statement is one of the design as one of the excerpt.
-func (x *excerpt) statement(t api.T) api.T {
-	if t.Op == api.AssignT {
-		t.Sig = x.number(t.Sig)
+	x := excerpt.Of(d.Signals)
+	p = x.Process(p)
+	var places []int
+	for _, signal := range x.From {
+		for bit := lowest[signal]; bit < lowest[signal+1]; bit++ {
+			places = append(places, bit)
+		}
 	}
-	t.E, t.L = each(t.E, x.expression), each(t.L, x.statement)
-	return t
-}
-
-func (x *excerpt) expression(e api.E) api.E {
-	if e.Op == api.SigE || e.Op == api.IndexE {
-		e.Sig = x.number(e.Sig)
-	}
-	e.L = each(e.L, x.expression)
-	return e
-}
-
-// number is a signal's in the excerpt, where it is put, by a short name, if it is not there yet.
-func (x *excerpt) number(signal int) int {
-	n, met := x.numbers[signal]
-	if met {
-		return n
-	}
-	n = len(x.signals)
-	x.numbers[signal] = n
-	s := x.all[signal]
-	s.Name = strconv.Itoa(n)
-	x.signals = append(x.signals, s)
-	for bit := x.lowest[signal]; bit < x.lowest[signal+1]; bit++ {
-		x.places = append(x.places, bit)
-	}
-	return n
-}
-
-func each[N any](l []N, one func(n N) N) []N {
-	made := make([]N, len(l))
-	for k, n := range l {
-		made[k] = one(n)
-	}
-	return made
+	return process{clocked: p.Clocked, alone: api.Flat{Signals: x.Signals, Procs: []api.Proc{p}}, places: places}
 }

@@ -7,18 +7,9 @@ import (
 
 	"filigree/api"
 	"filigree/lint"
+	"filigree/madeup"
 	"filigree/stmt"
 )
-
-// values are any that a design's signals can have.
-func (c *chance) values(d api.Flat) []uint64 {
-	var v []uint64
-	for _, s := range d.Signals {
-		n := uint64(c.below(1<<31))<<33 ^ uint64(c.below(1<<31))
-		v = append(v, n&(math.MaxUint64>>(64-s.W)))
-	}
-	return v
-}
 
 // withWires is values of which those of wires, and of outputs, are others.
 func withWires(d api.Flat, v, others []uint64) []uint64 {
@@ -45,13 +36,13 @@ func done(t *testing.T, d api.Flat, v []uint64, processes []int) []uint64 {
 }
 
 // rests wants that a clean design's processes of wires, done in order, come to rest at the same values, whatever the wires were; and tells whether they were anything else ahead of it.
-func (c *chance) rests(t *testing.T, what any, d api.Flat) bool {
+func rests(t *testing.T, c *madeup.Chance, what any, d api.Flat) bool {
 	t.Helper()
 	order, e := lint.Order(d)
 	if e != api.OK {
 		t.Fatalf("%v: error %d", what, e)
 	}
-	v := c.values(d)
+	v := c.Values(d)
 	rest := done(t, d, v, order)
 	for p, one := range d.Procs {
 		if !one.Clocked && !slices.Equal(done(t, d, rest, []int{p}), rest) {
@@ -59,7 +50,7 @@ func (c *chance) rests(t *testing.T, what any, d api.Flat) bool {
 		}
 	}
 	for range 3 {
-		if other := done(t, d, withWires(d, v, c.values(d)), order); !slices.Equal(other, rest) {
+		if other := done(t, d, withWires(d, v, c.Values(d)), order); !slices.Equal(other, rest) {
 			t.Fatalf("%v: %x behind %d, and of other wires %x", what, rest, order, other)
 		}
 	}
@@ -68,11 +59,11 @@ func (c *chance) rests(t *testing.T, what any, d api.Flat) bool {
 
 // TestComesToRest: what follows of P12.1 to P12.3, of designs of chance that are clean.
 func TestComesToRest(t *testing.T) {
-	c := chance(2)
+	c := madeup.Chance(2)
 	moved := 0
 	for range 1000 {
-		text := c.module(faults{})
-		if c.rests(t, text, whole(t, text)) {
+		text := c.Module(madeup.Faults{})
+		if rests(t, &c, text, whole(t, text)) {
 			moved++
 		}
 	}
@@ -97,8 +88,8 @@ func TestChainComesToRest(t *testing.T) {
 			t.Errorf("%x of %x", got, v)
 		}
 	}
-	c := chance(3)
+	c := madeup.Chance(3)
 	for range 10 {
-		c.rests(t, "a chain", d)
+		rests(t, &c, "a chain", d)
 	}
 }

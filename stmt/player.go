@@ -4,6 +4,7 @@ import (
 	"filigree/api"
 	"filigree/bitv"
 	"filigree/eval"
+	"filigree/excerpt"
 )
 
 // player is values that a process is done to: expressions are those of the values seen, statements write into those made. The two are one list, unless the process is clocked.
@@ -40,9 +41,9 @@ func (p player) write(t api.T, v uint64) {
 
 // value is what an expression of the design is; of what is sized eval tells no error.
 func (p player) value(e api.E) uint64 {
-	x := excerpt{of: p, numbers: map[int]int{}}
-	e = x.expression(e)
-	v, _ := eval.Eval(api.Flat{Signals: x.signals}, x.values, e)
+	x := excerpt.Of(p.signals)
+	e = x.Expression(e)
+	v, _ := eval.Eval(api.Flat{Signals: x.Signals}, x.Values(p.seen), e)
 	return v
 }
 
@@ -63,37 +64,4 @@ func armOf(arms []api.T, v uint64) api.T {
 		}
 	}
 	return arms[len(arms)-1]
-}
-
-// excerpt is those signals that stand in an expression, with their values, by numbers of their own. Eval checks each time all of the design that it is handed: so it is handed no more than that.
-type excerpt struct {
-	of      player
-	numbers map[int]int
-	signals []api.Signal
-	values  []uint64
-}
-
-// expression is one of the design as one of the excerpt.
-func (x *excerpt) expression(e api.E) api.E {
-	if e.Op == api.SigE || e.Op == api.IndexE {
-		e.Sig = x.number(e.Sig)
-	}
-	parts := make([]api.E, len(e.L))
-	for k, part := range e.L {
-		parts[k] = x.expression(part)
-	}
-	e.L = parts
-	return e
-}
-
-// number is a signal's in the excerpt, where it is put if it is not there yet.
-func (x *excerpt) number(signal int) int {
-	n, ok := x.numbers[signal]
-	if !ok {
-		n = len(x.signals)
-		x.numbers[signal] = n
-		x.signals = append(x.signals, x.of.signals[signal])
-		x.values = append(x.values, x.of.seen[signal])
-	}
-	return n
 }
